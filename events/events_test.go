@@ -73,7 +73,7 @@ func TestAGenerationWithoutAName(t *testing.T) {
 	d := made(t, 1000)
 	for _, down := range []bool{false, true} {
 		for _, gen := range []uint64{top + 1, math.MaxUint64} {
-			for i, err := range []api.Errno{events.Begin(d, gen), events.Append(d, gen, tick), events.Append(d, gen, op.Op{}), events.Sync(d, gen), events.Cut(d, gen, 0)} {
+			for i, err := range []api.Errno{events.Begin(d, gen), events.Append(d, gen, tick), events.Append(d, gen, op.Op{}), events.Sync(d, gen), events.Cut(d, gen, 0), events.Cut(d, gen, -1)} {
 				if err != api.ErrArg {
 					t.Errorf("call %d of %d: %d", i, gen, err)
 				}

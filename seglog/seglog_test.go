@@ -10,6 +10,7 @@ import (
 
 	"tumbrel/api"
 	"tumbrel/disk"
+	"tumbrel/frame"
 	"tumbrel/record"
 	"tumbrel/seglog"
 )
@@ -129,6 +130,7 @@ func TestAppendFillsSegments(t *testing.T) {
 	appended(t, l, 85, 5, 0)
 	appended(t, l, 12, 6, 0)
 	holds(t, d, "m.1:64 m.2:12 m.3:53 m.4:76 m.5:85 m.6:12")
+	appended(t, begun(t, d, 10, 64), 76, 10, 0) // likewise, as the first one of all
 	m := begun(t, d, 20, 65536)
 	for n := range uint64(100) {
 		appended(t, m, 60, 20, 60*n)
@@ -261,6 +263,20 @@ func TestReadOfTheLongestRecord(t *testing.T) {
 		if r, size, err := l.Read(1, 111*n); !record.Same(r, long) || size != 111 || err != api.OK {
 			t.Errorf("Read = %v, %d, %d", r, size, err)
 		}
+	}
+}
+
+// Frames may be longer than records: they are whole, and none of the kinds.
+func TestReadOfTheLongestFrame(t *testing.T) {
+	d := made(t, 10000)
+	b, err := frame.Bytes(frame.Frame{Kind: 99, Body: make([]byte, 400)})
+	fine(t, err, d.Create("m.1"), d.Append("m.1", b))
+	if r, n, err := seglog.At(d, 1, 0); !record.Same(r, record.Record{}) || n != 0 || err != api.ErrForm {
+		t.Errorf("At = %v, %d, %d", r, n, err)
+	}
+	fine(t, d.Cut("m.1", len(b)-1))
+	if _, _, err := seglog.At(d, 1, 0); err != api.ErrShort {
+		t.Errorf("At of all but a byte: %d", err)
 	}
 }
 
@@ -442,13 +458,5 @@ func TestWhatWasSyncedIsThere(t *testing.T) {
 				t.Fatalf("what wasn't sure is turned: %d", err)
 			}
 		}
-	}
-}
-
-func TestTheDisksCallsArePromoted(t *testing.T) {
-	d := made(t, 1000)
-	l := begun(t, d, 1, 64)
-	if l.Held() != 0 || !slices.Equal(l.Names(), []string{"m.1"}) || l.Down() {
-		t.Errorf("the log's disk has %v", l.Names())
 	}
 }

@@ -648,12 +648,13 @@ func TestTheLastGeneration(t *testing.T) {
 	if err := s.Pack(); err != api.ErrFull || !maps.Equal(files(t, d), before) {
 		t.Errorf("Pack of the last generation: %d", err)
 	}
-	does(t, opened(t, unfused(d)), lease(0, 1), "", op.Answer{Id: 1, Token: 1, Count: 1, Where: index.Where{Seg: 1, Size: 1}}, "a")
-}
-
-func unfused(d *disk.Disk) *disk.Disk {
 	d.Fuse(-1)
-	return d
+	does(t, s, lease(0, 1), "", op.Answer{Id: 1, Token: 1, Count: 1, Where: index.Where{Seg: 1, Size: 1}}, "a")
+	done(t, s, put(0, 0), "b")
+	d.Fuse(0)
+	if err := s.Pack(); err != api.ErrDown {
+		t.Errorf("Pack of the last generation, the power going at the log's Sync: %d", err)
+	}
 }
 
 func TestPackThatLosesPowerBehindTheRoot(t *testing.T) {
@@ -675,5 +676,50 @@ func TestPackThatLosesPowerBehindTheRoot(t *testing.T) {
 		if got := names(d); got != "e.1 m.1 root s.1" && got != "e.2 m.1 root s.2" {
 			t.Errorf("opened behind a fuse of %d: %s", n, got)
 		}
+	}
+}
+
+func TestFormatDeletesByNames(t *testing.T) {
+	for n, want := range []string{"a b m.10 m.9", "b m.10 m.9", "m.10 m.9", "m.9", ""} {
+		d := made(t, 1000)
+		for _, name := range []string{"m.9", "b", "m.10", "a"} {
+			fine(t, d.Create(name))
+		}
+		d.Fuse(n)
+		if err := store.Format(d, set); err != api.ErrDown || names(d) != want {
+			t.Errorf("Format with a fuse of %d: %d, %s, want %s", n, err, names(d), want)
+		}
+	}
+}
+
+// Pack deletes what is ahead first, then the segments, by their numbers.
+func TestPackDeletesByNumbers(t *testing.T) {
+	build := func() (*disk.Disk, *store.Store) {
+		d, s := begun(t, 10000, set)
+		for range 53 {
+			done(t, s, put(0, 0), "")
+		}
+		for token := range uint64(53) {
+			done(t, s, lease(0, 1), "")
+			done(t, s, ack(token+1), "")
+		}
+		fine(t, s.Sync())
+		return d, s
+	}
+	for n := range 10 + 2 + 10 + 1 {
+		d, s := build()
+		d.Fuse(n)
+		if err := s.Pack(); err != api.ErrDown {
+			t.Fatalf("Pack with a fuse of %d: %d", n, err)
+		}
+		old, gone := slices.Contains(d.Names(), "s.1"), 11-len(segs(d))
+		if n > 10 == old || (n > 11) == slices.Contains(d.Names(), "e.1") || gone != max(n-12, 0) || segs(d)[0] != uint64(gone+1) {
+			t.Errorf("Pack with a fuse of %d leaves %s", n, names(d))
+		}
+	}
+	d, s := build()
+	fine(t, s.Pack())
+	if names(d) != "e.2 m.11 root s.2" {
+		t.Errorf("Pack leaves %s", names(d))
 	}
 }
